@@ -1,0 +1,1 @@
+"""Roundglass: rays through glasses, and for ever between mirrors."""
