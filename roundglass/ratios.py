@@ -66,7 +66,9 @@ def floor_root(number):
     if number == 0:
         return 0
     # Newton's steps fall to the root only from above, so the first guess is a power of 2 beyond it.
-    guess = 1 << (number.bit_length() + 1) // 2
+    guess = 1
+    for step in range((number.bit_length() + 1) // 2):
+        guess = guess * 2
     better = (guess + number // guess) // 2
     while better < guess:
         guess = better
