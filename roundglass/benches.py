@@ -1,11 +1,9 @@
 """Benches: lists of gaps, glasses and stops, and their tables."""
 
 from roundglass.ratios import is_ratio, minus, plus, times
-from roundglass.tables import by_columns, led
+from roundglass.tables import AXIS_RAY, LEVEL_RAY, by_columns, led
 
 MOST_PARTS = 12
-LEVEL_RAY = ((1, 1), (0, 1))
-AXIS_RAY = ((0, 1), (1, 1))
 
 
 def may_have(word, number):

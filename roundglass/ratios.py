@@ -40,6 +40,10 @@ def opposite(one):
     return (-one[0], one[1])
 
 
+def unsigned(one):
+    return (abs(one[0]), one[1])
+
+
 def plus(one, other):
     return ratio(one[0] * other[1] + other[0] * one[1], one[1] * other[1])
 

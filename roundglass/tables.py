@@ -1,6 +1,9 @@
 """Rays (height, slope), and tables (a, b, c, d) that lead them."""
 
-from roundglass.ratios import NOUGHT, ONE, is_ratio, minus, opposite, plus, times
+from roundglass.ratios import NOUGHT, ONE, is_ratio, minus, opposite, over, plus, times
+
+LEVEL_RAY = ((1, 1), (0, 1))
+AXIS_RAY = ((0, 1), (1, 1))
 
 
 def are_ratios(thing, count):
@@ -48,6 +51,14 @@ def cross(one, other):
     y, u = one
     z, w = other
     return minus(times(y, w), times(z, u))
+
+
+def axis_ahead(ray):
+    # How far on the ray is at height nought; a level ray comes there nowhere.
+    y, u = ray
+    if u == NOUGHT:
+        return None
+    return opposite(over(y, u))
 
 
 def power(table, n):
