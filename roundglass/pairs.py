@@ -2,17 +2,13 @@
 
 from roundglass.images import ray_from
 from roundglass.ratios import NOUGHT, less, minus, opposite, over, root, times
-from roundglass.tables import behind, by_columns, cross, undone
+from roundglass.tables import behind, by_columns, cross, grown, undone
 
 
 def ray_to(plane):
     if plane is None:
         return ray_from(plane)
     return ray_from(opposite(plane))
-
-
-def grown(ray, share):
-    return (times(ray[0], share), times(ray[1], share))
 
 
 def frame(rays):

@@ -61,6 +61,14 @@ def over(one, other):
     return ratio(one[0] * other[1], one[1] * other[0])
 
 
+def total(ratios):
+    # One common bottom for all: to reduce behind each sum is far more work where the bottoms are great.
+    bottom = 1
+    for one in ratios:
+        bottom = bottom // divisor(bottom, one[1]) * one[1]
+    return ratio(sum([one[0] * (bottom // one[1]) for one in ratios]), bottom)
+
+
 def less(one, other):
     # Bottoms are above 0, so taking both sides by them keeps the order.
     return one[0] * other[1] < other[0] * one[1]

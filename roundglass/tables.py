@@ -53,6 +53,10 @@ def cross(one, other):
     return minus(times(y, w), times(z, u))
 
 
+def grown(ray, share):
+    return (times(ray[0], share), times(ray[1], share))
+
+
 def axis_ahead(ray):
     # How far on the ray is at height nought; a level ray comes there nowhere.
     y, u = ray

@@ -144,6 +144,39 @@ def imported_names(tree):
     return [name.name for node in tree.body if isinstance(node, ast.ImportFrom) for name in node.names]
 
 
+def is_walk(node):
+    if not isinstance(node, ast.Call):
+        return False
+    if isinstance(node.func, ast.Attribute):
+        return node.func.attr in ("items", "keys", "values")
+    return isinstance(node.func, ast.Name) and node.func.id in ("zip", "enumerate", "reversed", "range")
+
+
+def walked_on_the_spot(tree):
+    places = []
+    for node in ast.walk(tree):
+        if isinstance(node, (ast.For, ast.comprehension)):
+            places.append(node.iter)
+        if isinstance(node, ast.Call) and isinstance(node.func, ast.Name) and node.args:
+            if node.func.id in ("list", "tuple", "dict", "sorted", "sum", "any", "all", "enumerate", "zip"):
+                places.append(node.args[0])
+            if node.func.id in ("min", "max") and len(node.args) == 1:
+                places.append(node.args[0])
+        if isinstance(node, ast.Call) and isinstance(node.func, ast.Attribute) and node.func.attr == "join":
+            places += node.args
+    return places
+
+
+def walk_faults(tree):
+    spots = walked_on_the_spot(tree)
+    return [f"{node.lineno}: L23 kept" for node in ast.walk(tree) if is_walk(node) and node not in spots]
+
+
+def unused_faults(tree):
+    used = {node.id for node in ast.walk(tree) if isinstance(node, ast.Name)}
+    return [f"unused {name}" for name in imported_names(tree) if name not in used]
+
+
 def shadow_faults(tree):
     names = top_names(tree) + imported_names(tree)
     faults = [f"L15 twice {name}" for name in sorted(set(names)) if names.count(name) > 1]
@@ -168,7 +201,7 @@ def tree_faults(text):
         if isinstance(node, ast.stmt):
             told.append(statement_fault(node))
         faults += [f"{getattr(node, 'lineno', 0)}: {fault}" for fault in told if fault]
-    return faults + shadow_faults(tree)
+    return faults + shadow_faults(tree) + walk_faults(tree) + unused_faults(tree)
 
 
 def faults_of(text):
@@ -226,6 +259,8 @@ class Checker(unittest.TestCase):
             "def f(a):\n    'words'\n    return a\n", "x = list()\n", "x = 1\nx = 2\n", "# \u00e4\n",
             "def f(a):\n    return chr(a)\n", "def f():\n" + "    pass\n" * 40, "print(1)\n",
             "from roundglass.errors import NoRatio\ndef f(NoRatio):\n    return 1\n",
+            "def f(a):\n    b = zip(a, a)\n    return list(b)\n", "def f(a):\n    return a.items()\n",
+            "def f(a):\n    return zip(a, reversed(a))\n", "from roundglass.errors import NoRatio\n",
         ):
             self.assertNotEqual(faults_of(text), [], text)
 

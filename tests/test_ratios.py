@@ -132,7 +132,7 @@ class Reckoned(unittest.TestCase):
         for number in range(60):
             self.held(seeded.ratio(WIDE), seeded.ratio(WIDE))
         self.held((GREAT, WIDE), (-GREAT, WIDE))
-        self.held((GREAT, WIDE), (GREAT + 1, WIDE + 1))
+        self.held((GREAT, WIDE), (GREAT + 2, WIDE + 1))
 
     def test_less_is_strict_and_exact(self):
         self.assertIs(less((1, 2), (1, 2)), False)
