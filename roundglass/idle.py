@@ -1,7 +1,7 @@
 """Idle lines, that stop no ray which all others let by, and the judge of what is told of them."""
 
 from roundglass.lines import lets, lets_by
-from roundglass.most import added, are_shares, most, value_of
+from roundglass.most import bound_by, most, value_of
 from roundglass.ratios import less, over, plus
 from roundglass.tables import grown
 
@@ -24,10 +24,11 @@ def idle(lines, k):
 
 
 def shares_right(lines, k, shares):
-    if not are_shares(lines, shares) or k in [number for number, share in shares]:
+    if k in [number for number, share in shares]:
         return False
-    p, q, r = added(lines, shares)
-    return (p, q) == lines[k][:2] and not less(lines[k][2], r)
+    p, q, r = lines[k]
+    bound = bound_by(lines, shares, p, q)
+    return bound is not None and not less(r, bound)
 
 
 def idle_right(lines, k, told):

@@ -1,7 +1,7 @@
 """The most of p y + q u that lines let by, with shares of lines that show it, and the judge of both."""
 
 from roundglass.lines import lets, sum_by
-from roundglass.ratios import NOUGHT, opposite, over, plus, ratio, times, unsigned
+from roundglass.ratios import NOUGHT, ONE, common_bottom, opposite, over, ratio, same, times, tops_over, unsigned
 from roundglass.rims import facing, half_rim, met_at, veer
 from roundglass.tables import cross, grown
 
@@ -13,9 +13,8 @@ def value_of(p, q, ray):
     return ratio(top, bottom)
 
 
-def sides_around(half, p, q):
+def sides_around(half, wanted):
     # Between two neighbours of the rim, or along the first, lies each (p, q), and they meet where it is most.
-    wanted = (p[0] * q[1], q[0] * p[1])
     rim = half + [facing(side) for side in half]
     found = None
     for one, other in zip(rim, rim[1:] + rim[:1]):
@@ -24,12 +23,17 @@ def sides_around(half, p, q):
     return found
 
 
-def two_shares(lines, one, other, p, q):
-    first = lines[one][:2]
-    second = lines[other][:2]
-    whole = cross(first, second)
-    shares = [(one, over(cross((p, q), second), whole)), (other, over(cross(first, (p, q)), whole))]
-    return sorted([pair for pair in shares if pair[1] != NOUGHT])
+def most_around(half, p, q):
+    bottom = common_bottom((p, q))
+    wanted = tops_over((p, q), bottom)
+    one, other = sides_around(half, wanted)
+    # (p, q) is so much of the one side and of the other, over the whole; of the lines it is that by their scales.
+    of_one = veer(wanted, other)
+    of_other = veer(one, wanted)
+    whole = bottom * veer(one, other)
+    value = ratio(of_one * one[2] + of_other * other[2], whole)
+    shares = [(one[3], ratio(of_one * one[4], whole)), (other[3], ratio(of_other * other[4], whole))]
+    return ("most", value, met_at(one, other), sorted([pair for pair in shares if pair[1] != NOUGHT]))
 
 
 def most_along(lines, number, p, q):
@@ -54,9 +58,7 @@ def most(lines, p, q):
         return ("free", (p, q))
     if len(half) == 1:
         return most_along(lines, half[0][3], p, q)
-    one, other = sides_around(half, p, q)
-    ray = met_at(one, other)
-    return ("most", value_of(p, q, ray), ray, two_shares(lines, one[3], other[3], p, q))
+    return most_around(half, p, q)
 
 
 def are_shares(lines, shares):
@@ -71,12 +73,22 @@ def are_shares(lines, shares):
 
 
 def added(lines, shares):
+    # The three sums are not in lowest terms: a judge only multiplies, adds and compares.
     sums = [NOUGHT, NOUGHT, NOUGHT]
     for number, share in shares:
-        p, q, r = lines[number]
-        parts = (times(p, share), times(q, share), times(r, unsigned(share)))
-        sums = [plus(one, part) for one, part in zip(sums, parts)]
-    return tuple(sums)
+        weights = (share, share, unsigned(share))
+        sums = [sum_by(one, part, (ONE, weight)) for one, part, weight in zip(sums, lines[number], weights)]
+    return sums
+
+
+def bound_by(lines, shares, p, q):
+    # What the shares show p y + q u to be at most; None where they show nothing.
+    if not are_shares(lines, shares):
+        return None
+    sums = added(lines, shares)
+    if not same(sums[0], p) or not same(sums[1], q):
+        return None
+    return sums[2]
 
 
 def free_right(lines, p, q, ray):
@@ -89,6 +101,7 @@ def most_right(lines, p, q, told):
     if len(told) == 2:
         return told[0] == "free" and free_right(lines, p, q, told[1])
     word, value, ray, shares = told
-    if word != "most" or not lets(lines, ray) or value_of(p, q, ray) != value:
+    if word != "most" or not lets(lines, ray) or not same(sum_by(p, q, ray), value):
         return False
-    return are_shares(lines, shares) and added(lines, shares) == (p, q, value)
+    bound = bound_by(lines, shares, p, q)
+    return bound is not None and same(bound, value)

@@ -61,17 +61,31 @@ def over(one, other):
     return ratio(one[0] * other[1], one[1] * other[0])
 
 
-def total(ratios):
-    # One common bottom for all: to reduce behind each sum is far more work where the bottoms are great.
+def common_bottom(ratios):
     bottom = 1
     for one in ratios:
         bottom = bottom // divisor(bottom, one[1]) * one[1]
-    return ratio(sum([one[0] * (bottom // one[1]) for one in ratios]), bottom)
+    return bottom
+
+
+def tops_over(ratios, bottom):
+    return [one[0] * (bottom // one[1]) for one in ratios]
+
+
+def total(ratios):
+    # To reduce behind each sum is far more work where the bottoms are great.
+    bottom = common_bottom(ratios)
+    return ratio(sum(tops_over(ratios, bottom)), bottom)
 
 
 def less(one, other):
     # Bottoms are above 0, so taking both sides by them keeps the order.
     return one[0] * other[1] < other[0] * one[1]
+
+
+def same(one, other):
+    # Of tops and bottoms that need not be in lowest terms.
+    return one[0] * other[1] == other[0] * one[1]
 
 
 def floor_root(number):

@@ -1,31 +1,25 @@
 """The rim of lines: the sides that bound the rays they let by, once around.
 
-A line has two sides (p, q, r, number) and (-p, -q, r, number), of whole numbers: one lets by rays of which
-p y + q u is at most r. As points p by r and q by r the sides of the rim are the hull of all sides, and nought
-lies within it. All is reckoned in whole numbers, as to reduce ratios of many figures is far more work.
+A side (p, q, r, number, scale) lets by the rays of which p y + q u is at most r. All five are whole numbers, as to
+reduce ratios of many figures is far more work; p, q and r are those of the line taken by the scale, but r without
+its sign, so each line has two sides. As points p by r and q by r the sides of the rim are the hull of all sides,
+and nought lies within it.
 """
 
-from roundglass.ratios import divisor, ratio
-
-
-def whole_parts(line):
-    # Taken by one number above 0 a line lets by the same rays.
-    p, q, r = line
-    parts = (p[0] * q[1] * r[1], q[0] * p[1] * r[1], r[0] * p[1] * q[1])
-    share = divisor(divisor(abs(parts[0]), abs(parts[1])), parts[2])
-    return [part // share for part in parts]
+from roundglass.ratios import common_bottom, ratio, tops_over
 
 
 def facing(side):
-    p, q, r, number = side
-    return (-p, -q, r, number)
+    p, q, r, number, scale = side
+    return (-p, -q, r, number, -scale)
 
 
 def sides_of(lines):
     sides = []
     for number, line in enumerate(lines):
-        p, q, r = whole_parts(line)
-        side = (p, q, r, number)
+        scale = common_bottom(line)
+        p, q, r = tops_over(line, scale)
+        side = (p, q, r, number, scale)
         sides.append(side)
         sides.append(facing(side))
     return sides
