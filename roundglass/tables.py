@@ -4,6 +4,7 @@ from roundglass.ratios import NOUGHT, ONE, is_ratio, minus, opposite, over, plus
 
 LEVEL_RAY = ((1, 1), (0, 1))
 AXIS_RAY = ((0, 1), (1, 1))
+SELF = ((1, 1), (0, 1), (0, 1), (1, 1))
 
 
 def are_ratios(thing, count):

@@ -95,6 +95,8 @@ def number_fault(node):
 def expression_fault(node):
     if isinstance(node, ast.expr) and not isinstance(node, EXPRESSIONS):
         return "L7 expression"
+    if isinstance(node, ast.FormattedValue) and (node.format_spec or not isinstance(node.value, ast.Name)):
+        return "L7 f-string"
     if isinstance(node, ast.ListComp) and (len(node.generators) != 1 or len(node.generators[0].ifs) > 1):
         return "L7 comprehension"
     if isinstance(node, ast.Compare) and any(isinstance(op, (ast.Is, ast.IsNot)) for op in node.ops):
@@ -260,7 +262,7 @@ class Checker(unittest.TestCase):
             "def f(a):\n    return chr(a)\n", "def f():\n" + "    pass\n" * 40, "print(1)\n",
             "from roundglass.errors import NoRatio\ndef f(NoRatio):\n    return 1\n",
             "def f(a):\n    b = zip(a, a)\n    return list(b)\n", "def f(a):\n    return a.items()\n",
-            "def f(a):\n    return zip(a, reversed(a))\n", "from roundglass.errors import NoRatio\n",
+            "def f(a):\n    return zip(a, reversed(a))\n", "def f(a):\n    return f'{a[0]}'\n", "from roundglass.errors import NoRatio\n",
         ):
             self.assertNotEqual(faults_of(text), [], text)
 
