@@ -2,15 +2,13 @@
 
 from roundglass.benches import is_bench, table_of, turned_bench
 from roundglass.ratios import (
-    NOUGHT, common_bottom, is_ratio, less, minus, opposite, over, plus, ratio, root, times, tops_over, unsigned,
+    NOUGHT, ONE, common_bottom, is_ratio, less, minus, opposite, over, plus, ratio, root, times, tops_over, unsigned,
 )
 from roundglass.tables import AXIS_RAY, SELF, led
 
 MOST_BETWEEN = 8
 TWO = (2, 1)
 FOUR = (4, 1)
-# In how many rounds each ray is led to itself, where t alone tells it.
-ROUNDS_BY_T = {(-1, 1): 3, (0, 1): 4, (1, 1): 6}
 
 
 def is_hall(thing):
@@ -40,7 +38,12 @@ def rounds_to_self(table):
         return 1
     if table == tuple([opposite(entry) for entry in SELF]):
         return 2
-    return ROUNDS_BY_T.get(t_of(table))
+    t = t_of(table)
+    if t == opposite(ONE):
+        return 3
+    if t == NOUGHT:
+        return 4
+    return 6 if t == ONE else None
 
 
 def kind_word(table):
