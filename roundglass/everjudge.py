@@ -19,10 +19,10 @@ def reach_right(table, numbers, s):
 
 
 def kept_right(table, numbers, k):
-    if not is_ratio(k) or k == NOUGHT or less(ONE, unsigned(k)):
+    if not is_ratio(k) or less(ONE, unsigned(k)):
         return False
     x, later, r = numbers
-    # k + 1 by k is t, both sides taken by k.
+    # k + 1 by k is t, both sides taken by k; so no k of 0 does.
     if plus(times(k, k), ONE) != times(t_of(table), k):
         return False
     return times(k, x) == later and not less(r, unsigned(x))

@@ -61,12 +61,11 @@ def form_of(table):
 
 
 def ray_along(table):
-    # Of a shear: half of t is 1 or -1, and a round takes this ray by it.
+    # Of a shear: half of t is 1 or -1, and a round takes this ray by it. Where b is 0, a and d are both half of t.
     a, b, c, d = table
-    slope = minus(over(t_of(table), TWO), a)
-    if b == NOUGHT and slope == NOUGHT:
+    if b == NOUGHT:
         return AXIS_RAY
-    return (b, slope)
+    return (b, minus(over(t_of(table), TWO), a))
 
 
 def shrinking(t):

@@ -26,6 +26,10 @@ def slow_right(hall, ray, paper):
     return all(slow_line_right(hall, ray, line, shown) for line, shown in zip(lines, paper))
 
 
+def opposite(ray):
+    return tuple((-top, bottom) for top, bottom in ray)
+
+
 def kept_ray(hall, k):
     a, b, c, d = slow_table(hall)
     return (of(b), of(k - a))
@@ -158,6 +162,11 @@ class NeverShown(unittest.TestCase):
         self.assertIs(never_shown(flat, (ONE, NOUGHT), [("kept", ONE)] * 2), True)
         self.assertIs(never_shown(flat, (ONE, NOUGHT), [("kept", 1)] * 2), False)
 
+    def test_lists_are_no_tuples(self):
+        for hall, ray in one_of_each():
+            paper = ever(hall, ray)[1]
+            self.assertIs(never_shown(hall, ray, [list(shown) for shown in paper]), False)
+
     def test_kept_in_a_hall_of_whatever_kind(self):
         ray = (ONE, (1, 2))
         self.assertTrue(self.agree(with_stops(SAME[1], 9), ray, [("kept", ONE)] * 4))
@@ -177,8 +186,10 @@ class NeverShown(unittest.TestCase):
             ray = kept_ray(hall, fraction(k))
             one = (hall[0], [("stop", of(abs(fraction(ray[0]))))] + hall[1], hall[2])
             self.assertTrue(self.agree(one, ray, [("kept", k)] * 2))
+            self.assertTrue(self.agree(one, opposite(ray), [("kept", k)] * 2))
             less = (hall[0], [("stop", of(abs(fraction(ray[0])) - Fraction(1, 10 ** 30)))] + hall[1], hall[2])
             self.assertFalse(self.agree(less, ray, [("kept", k)] * 2))
+            self.assertFalse(self.agree(less, opposite(ray), [("kept", k)] * 2))
             # It grows by 1 by k, and that is beyond 1.
             out = kept_ray(hall, 1 / fraction(k))
             self.assertFalse(self.agree(with_stops(hall, 10 ** 9), out, [("kept", of(1 / fraction(k)))] * 4))
@@ -265,8 +276,9 @@ class LateShown(unittest.TestCase):
             for r in (Fraction(1, 10 ** 9), 10 ** 99):
                 self.assertEqual(self.agree(with_stops(hall, r), STILL), [False] * 4)
                 # Numbers that dwindle show nothing, though the first one may be beyond.
-                self.assertEqual(self.agree(with_stops(hall, r), kept_ray(hall, fraction(k))), [False] * 4)
-                self.assertEqual(self.agree(with_stops(hall, r), kept_ray(hall, 1 / fraction(k))), [True] * 4)
+                for turn in (tuple, opposite):
+                    self.assertEqual(self.agree(with_stops(hall, r), turn(kept_ray(hall, fraction(k)))), [False] * 4)
+                    self.assertEqual(self.agree(with_stops(hall, r), turn(kept_ray(hall, 1 / fraction(k)))), [True] * 4)
                 self.assertEqual(self.agree(with_stops(hall, r), (ONE, (1, 3))), [True] * 4)
         for hall in OFF_WITHOUT:
             self.assertEqual(self.agree(with_stops(hall, 10 ** 99), (ONE, (1, 3))), [True] * 4)
@@ -286,6 +298,11 @@ class LateShown(unittest.TestCase):
                 for told in self.agree(hall, ray):
                     seen.add((slow_word(hall), told))
         self.assertEqual(len(seen), 7)
+
+    def test_numbers_that_are_no_lines(self):
+        hall = with_stops(OFF[(1, 2)], 1)
+        for k, told in ((-5, False), (-4, False), (-1, False), (0, True), (3, True), (4, False), (9, False)):
+            self.assertIs(late_shown(hall, (ONE, (1, 3)), k), told)
 
     def test_never_both(self):
         for hall in all_kinds() + some_halls(5, 150, 2):

@@ -245,8 +245,9 @@ class Never(Told):
         for k, hall in OFF.items():
             a, b, c, d = slow_table(hall)
             ray = (of(b), of(fraction(k) - a))
-            told = self.check(with_stops(hall, 10 ** 9), ray)
-            self.assertEqual(told, ("never", [("kept", k)] * 4))
+            for turned in (ray, tuple((-top, bottom) for top, bottom in ray)):
+                told = self.check(with_stops(hall, 10 ** 9), turned)
+                self.assertEqual(told, ("never", [("kept", k)] * 4))
             out = (of(b), of(1 / fraction(k) - a))
             self.assertEqual(self.check(with_stops(hall, 10 ** 9), out)[0], "stopped")
             self.assertEqual(self.check(with_stops(hall, 10 ** 99), out)[0], "late")
@@ -272,6 +273,17 @@ class Late(Told):
                     self.assertTrue(by_float(lone, ray, line, float(fraction(bound)), 10 ** 6))
                 self.assertIsNone(slow_stop(lone, ray, 60))
         self.assertGreater(count, 1)
+
+    def test_off_by_one_line_alone(self):
+        # Each round takes the ray by -2; forth or back it is on the axis just where the stop stands.
+        stop = ("stop", (10 ** 99, 1))
+        for near, bench, far, ray, k in (
+            (NOUGHT, [("gap", (1, 3)), stop, ("gap", (2, 3))], (9, 4), ((-1, 1), (-3, 1)), 0),
+            ((9, 4), [("gap", (2, 3)), stop, ("gap", (1, 3))], NOUGHT, ((2, 1), (-3, 1)), 1),
+        ):
+            self.assertEqual(kind((near, bench, far)), ("off", (-1, 2)))
+            self.assertEqual(self.check((near, bench, far), ray), ("late", k))
+            self.assertIs(late_shown((near, bench, far), ray, 1 - k), False)
 
     def test_off(self):
         for hall in OFF_WITHOUT[:3] + list(OFF.values()):

@@ -148,6 +148,8 @@ class Fewest(unittest.TestCase):
             table(-1, great, 0, -1), table(0, 1, -1, great), table(0, -1, 1, great), table(great, -1, 1, 0),
             table(10 ** 25, 10 ** 50 - 1, 1, 10 ** 25), table(great, great - 1, 1, 1), table(1, 1, great - 1, great),
             table(-great, 1 - great, -1, -1), table(great, 1, -1, 0),
+            # Many gaps undone ahead of, or behind, many glasses undone.
+            table(1, -10 ** 25, 10 ** 25, 1 - 10 ** 50), table(1 - 10 ** 50, -10 ** 25, 10 ** 25, 1),
         ):
             self.assertTrue(is_table(told), told)
             self.assertRaises(TooMany, fewest, told)
