@@ -26,8 +26,11 @@ def shows_late(word, t, x, later, r):
         return False
     if word == "turns":
         return less(times(r, r), reach_by(t, x, later))
-    # Without a swing x' is k x, with k + 1 by k being t, or both are 0; where k is beyond 1 or -1 the numbers grow.
-    return swing(t, x, later)[0] != 0 or less(unsigned(x), unsigned(later))
+    # Without a swing x' is k x, with k + 1 by k being t, or both are 0.
+    if swing(t, x, later)[0] != 0:
+        return True
+    # Of off the numbers are kept just where they don't grow, and the first is not beyond r.
+    return word == "off" and (less(unsigned(x), unsigned(later)) or less(r, unsigned(x)))
 
 
 def late_lines(table, numbers):

@@ -163,7 +163,7 @@ def slow_late(hall, ray, line):
         return slow_reach(hall, ray, p, q) > fraction(r) ** 2
     if word == "shear":
         return later != (x if t == 2 else -x)
-    # Of off: not both 0, and no k below 1 and above -1 takes the one to the other for ever.
+    # Of off: not both 0, and no k from -1 to 1 takes the one to the other for ever, or the first is beyond.
     third = t * later - x
-    dwindles = x != 0 and later * later == third * x and abs(later) < abs(x)
-    return word == "off" and (x != 0 or later != 0) and not dwindles
+    kept = x != 0 and later * later == third * x and abs(later) <= abs(x) <= fraction(r)
+    return word == "off" and (x != 0 or later != 0) and not kept

@@ -256,8 +256,10 @@ class LateShown(unittest.TestCase):
                     self.assertEqual(self.agree(with_stops(hall, r), kind(hall)[1]), [False] * 4)
                     # Between two mirrors without a gap no height changes.
                     self.assertIs(True in self.agree(with_stops(hall, r), (ONE, (1, 3))), hall[1] != [])
-        # t being 2, x' is -x; t being -2, x' is x.
+        # Equal numbers show nothing, though they are beyond and round 0 stops the ray.
         flat = (NOUGHT, [("stop", ONE), GAP], NOUGHT)
+        self.assertEqual(self.agree(flat, ((9, 1), NOUGHT)), [False] * 2)
+        # t being 2, x' is -x; t being -2, x' is x.
         self.assertEqual(self.agree(flat, ((-1, 1), ONE)), [True] * 2)
         hall = ((2, 1), [("stop", ONE), GAP], (5, 1))
         a, b, c, d = slow_table(hall)
@@ -275,14 +277,36 @@ class LateShown(unittest.TestCase):
         for k, hall in OFF.items():
             for r in (Fraction(1, 10 ** 9), 10 ** 99):
                 self.assertEqual(self.agree(with_stops(hall, r), STILL), [False] * 4)
-                # Numbers that dwindle show nothing, though the first one may be beyond.
+                # Numbers that dwindle are kept just where the first one is not beyond.
                 for turn in (tuple, opposite):
-                    self.assertEqual(self.agree(with_stops(hall, r), turn(kept_ray(hall, fraction(k)))), [False] * 4)
+                    dwindling = turn(kept_ray(hall, fraction(k)))
+                    self.assertEqual(self.agree(with_stops(hall, r), dwindling), [r < 1] * 4)
                     self.assertEqual(self.agree(with_stops(hall, r), turn(kept_ray(hall, 1 / fraction(k)))), [True] * 4)
                 self.assertEqual(self.agree(with_stops(hall, r), (ONE, (1, 3))), [True] * 4)
         for hall in OFF_WITHOUT:
             self.assertEqual(self.agree(with_stops(hall, 10 ** 99), (ONE, (1, 3))), [True] * 4)
             self.assertEqual(self.agree(with_stops(hall, 10 ** 99), STILL), [False] * 4)
+
+    def test_off_with_dwindling_numbers_about_the_bound(self):
+        for k, hall in OFF.items():
+            ray = kept_ray(hall, fraction(k))
+            x = abs(fraction(ray[0]))
+            for r in (x, x + Fraction(1, 10 ** 30), x - Fraction(1, 10 ** 30), abs(fraction(k)) * x, x / 10 ** 9):
+                one = (hall[0], [("stop", of(r))] + hall[1], hall[2])
+                for turn in (tuple, opposite):
+                    # On the way back the stop meets what begins the next round.
+                    self.assertEqual(self.agree(one, turn(ray)), [r < x, r < abs(fraction(k)) * x])
+                    self.assertIs(never_shown(one, turn(ray), [("kept", k)] * 2), r >= x)
+                    self.assertEqual(ever(one, turn(ray))[0], "stopped" if r < x else "never")
+
+    def test_each_line_of_an_off_hall_with_its_own_bound(self):
+        wide, low = ("stop", (1000, 1)), ("stop", (1, 3))
+        hall = ((5, 2), [("gap", (1, 2)), ("stop", (5, 2)), wide, ("gap", (1, 2)), low], ONE)
+        ray = ((-3, 1), NOUGHT)
+        self.assertEqual(kind(hall), ("off", (-1, 2)))
+        told = self.agree(hall, ray)
+        self.assertEqual(told[:2], [True, False])
+        self.assertEqual(ever(hall, ray), ("stopped", 0, "forth", 1))
 
     def test_off_where_one_number_is_0(self):
         hall = OFF[(1, 2)]
